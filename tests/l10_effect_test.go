@@ -119,7 +119,7 @@ func leftAs(kind int, left int, n int) *big.Int {
 	if kind != 2 {
 		return big.NewInt(int64(left - bitOf(left > 0)))
 	}
-	less := new(big.Int).Sub(bigOf(left), bigOf(max(0, n)))
+	less := bigBound(new(big.Int).Sub(bigOf(left), bigOf(n)))
 	if less.Sign() < 0 {
 		return big.NewInt(0)
 	}
@@ -707,11 +707,14 @@ func TestFitsOfNoRightEffect(t *testing.T) {
 func TestSpentTable(t *testing.T) {
 	for _, x := range [][4]int{
 		{impl.AcShield, 5, 0, 5}, {impl.AcShield, 5, 1, 4}, {impl.AcShield, 5, 4, 1}, {impl.AcShield, 5, 5, 0}, {impl.AcShield, 5, 6, 0}, {impl.AcShield, 5, maxNum, 0}, {impl.AcShield, 5, maxNum + 1, 0},
-		{impl.AcShield, 5, math.MaxInt, 0}, {impl.AcShield, 5, -1, 5}, {impl.AcShield, 5, -maxNum, 5}, {impl.AcShield, 5, math.MinInt, 5}, {impl.AcShield, 0, 0, 0}, {impl.AcShield, 0, 1, 0},
-		{impl.AcShield, 0, -1, 0}, {impl.AcShield, 0, math.MinInt, 0}, {impl.AcShield, 0, math.MaxInt, 0}, {impl.AcShield, 1, 1, 0}, {impl.AcShield, 1, 2, 0},
+		{impl.AcShield, 5, math.MaxInt, 0}, {impl.AcShield, 5, -1, 6}, {impl.AcShield, 5, -maxNum, maxNum}, {impl.AcShield, 5, math.MinInt, maxNum}, {impl.AcShield, 0, 0, 0}, {impl.AcShield, 0, 1, 0},
+		{impl.AcShield, 0, -1, 1}, {impl.AcShield, 0, math.MinInt, maxNum}, {impl.AcShield, 0, math.MaxInt, 0}, {impl.AcShield, 1, 1, 0}, {impl.AcShield, 1, 2, 0},
 		{impl.AcShield, maxNum, 0, maxNum}, {impl.AcShield, maxNum, 1, maxNum - 1}, {impl.AcShield, maxNum, maxNum - 1, 1}, {impl.AcShield, maxNum, maxNum, 0}, {impl.AcShield, maxNum, maxNum + 1, 0},
 		{impl.AcShield, maxNum, -1, maxNum}, {impl.AcShield, maxNum, math.MinInt, maxNum}, {impl.AcShield, maxNum, math.MaxInt, 0},
-		{impl.AcShield, -1, 0, 0}, {impl.AcShield, -1, 3, 0}, {impl.AcShield, -9, -3, 0}, {impl.AcShield, math.MinInt, math.MaxInt, 0}, {impl.AcShield, math.MinInt, math.MinInt, 0},
+		{impl.AcShield, maxNum - 3, -2, maxNum - 1}, {impl.AcShield, maxNum - 3, -3, maxNum}, {impl.AcShield, maxNum - 3, -4, maxNum}, {impl.AcShield, 3, -maxNum - 1, maxNum}, {impl.AcShield, 1, -maxNum + 2, maxNum - 1},
+		{impl.AcShield, maxNum + 1, 0, maxNum}, {impl.AcShield, maxNum + 1, 1, maxNum - 1}, {impl.AcShield, math.MaxInt, -1, maxNum}, {impl.AcShield, math.MaxInt, math.MinInt, maxNum},
+		{impl.AcShield, -1, 0, 0}, {impl.AcShield, -1, 3, 0}, {impl.AcShield, -1, -1, 0}, {impl.AcShield, -1, -2, 1}, {impl.AcShield, -9, -3, 0}, {impl.AcShield, -9, -12, 3},
+		{impl.AcShield, -maxNum, -maxNum, 0}, {impl.AcShield, math.MinInt, math.MaxInt, 0}, {impl.AcShield, math.MinInt, math.MinInt, 0}, {impl.AcShield, 1 - maxNum, math.MinInt, 1},
 		{impl.AcStop, -1, 3, -1}, {impl.AcStop, 0, 3, 0}, {impl.AcStop, 1, 3, 0}, {impl.AcStop, 2, 3, 1}, {impl.AcStop, maxNum, 3, maxNum - 1}, {impl.AcTwice, 5, 0, 4}, {impl.AcHalf, 5, -9, 4},
 		{impl.AcMore, 5, math.MinInt, 4}, {impl.AcTurn, 5, math.MaxInt, 4}, {impl.AcZone, 1, 0, 0}, {impl.AcEnter, 0, 0, 0}, {impl.AcParts, -1, 0, -1}, {impl.AcParts, maxNum, maxNum, maxNum - 1},
 		{impl.AcMore, -2, 1, -2}, {impl.AcMore, math.MinInt, 1, math.MinInt}, {0, 3, 5, 2}, {0, 0, 5, 0}, {10, 3, 5, 2}, {10, -1, 5, -1}, {-2, 1, 5, 0},
@@ -739,7 +742,7 @@ func TestSpentAsTheDocumentSays(t *testing.T) {
 	}
 }
 
-// Promise 10.
+// Promise 10, of each amount that a shield may have taken away: below 0 is none.
 func TestWhatIsLeftIsNeverMore(t *testing.T) {
 	less, same := 0, 0
 	for _, base := range rightEffects() {
@@ -750,7 +753,11 @@ func TestWhatIsLeftIsNeverMore(t *testing.T) {
 			}
 			for _, n := range append(edgeNums(), left-1, left, left+1) {
 				got := impl.Spent(e, n)
-				if got.Left > left || !impl.EffectOk(got) {
+				wantEffectOk(t, got, true)
+				if e.Act.Kind == impl.AcShield && n < 0 {
+					continue
+				}
+				if got.Left > left {
 					t.Errorf("Spent of %v by %d leaves %d", e, n, got.Left)
 				}
 				less, same = less+bitOf(got.Left < left), same+bitOf(got.Left == left)
@@ -760,16 +767,41 @@ func TestWhatIsLeftIsNeverMore(t *testing.T) {
 	wantIs(t, "whether many have less, and many as much", less > 1000 && same > 1000, true, less, same)
 }
 
+// What a shield would have taken away below 0 comes to what is left of it, up to
+// the bound of Less; of others it is done once less, whatever n is.
+func TestSpentByLessThanNothing(t *testing.T) {
+	more, full := 0, 0
+	for _, base := range rightEffects() {
+		for _, left := range []int{0, 1, 2, 9, 800, maxNum - 9, maxNum - 1, maxNum} {
+			for _, n := range []int{-1, -2, -8, -9, -10, -999, -maxNum + 1, -maxNum, -maxNum - 1, math.MinInt} {
+				e := withEffPart(base, effLeft, left)
+				want := max(0, left-1)
+				if e.Act.Kind == impl.AcShield {
+					want = maxNum
+					if n > left-maxNum {
+						want = left - n
+					}
+					more, full = more+bitOf(want > left), full+bitOf(want == maxNum)
+				}
+				got := impl.Spent(e, n)
+				wantEffect(t, "Spent", got, withEffPart(e, effLeft, want))
+				wantEffectOk(t, got, true)
+			}
+		}
+	}
+	wantIs(t, "whether many have more, and many all", more > 100 && full > 100, true, more, full)
+}
+
 // Promise 10, of one turn behind the other: what a shield took away in all is no
 // more than it had, and others are done as often as is left of them.
 func TestWhatIsLeftGoesDownToNothing(t *testing.T) {
-	for _, amounts := range [][]int{{1, 1, 1, 1, 1, 1, 1, 1, 1, 1}, {-4, 3, 0, 2, -9, 4, 1, 0, -1, 7}, {9, 9}, {0, 0, 0}, {maxNum, -maxNum, maxNum}, {math.MinInt, 2, math.MinInt, math.MaxInt, math.MinInt}} {
+	for _, amounts := range [][]int{{1, 1, 1, 1, 1, 1, 1, 1, 1, 1}, {3, 0, 2, 4, 1, 0, 7}, {9, 9}, {8, 2, 0}, {0, 0, 0}, {maxNum, 0, maxNum}, {2, math.MaxInt, 0, 3}} {
 		for _, e := range kindEffects() {
 			times := 0
 			for _, n := range amounts {
 				next := impl.Spent(e, n)
 				took := e.Left - next.Left
-				most := max(0, n)
+				most := n
 				if e.Act.Kind != impl.AcShield {
 					most, times = 1, times+1
 				}
